@@ -1,0 +1,1 @@
+"""Mixpots: few spoilt wares among many, found by tests of mixtures."""
