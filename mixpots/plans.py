@@ -56,10 +56,15 @@ def has_ware_of(mixture, members):
     return False
 
 
+# A function by itself, so that what goes through all sets does not check the plan anew for each.
+def answers_of(plan, members):
+    return [has_ware_of(mixture, members) for mixture in plan]
+
+
 def answers(wares, plan, spoilt):
     check_plan(wares, plan)
     check_set(wares, spoilt)
-    return [has_ware_of(mixture, spoilt) for mixture in plan]
+    return answers_of(plan, spoilt)
 
 
 # Only greater wares are put behind a set, so each set comes once and an ordered list stays ordered.

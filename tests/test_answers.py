@@ -1,30 +1,9 @@
 import copy
 import inspect
-import itertools
 import unittest
 
 from mixpots.plans import answers
-from refusals import assert_refused
-
-TOO_FEW_OR_MANY = [0, 9, 10, -1, -8, 100, 10**30, -(10**30), 10**5000, -(10**5000)]
-# Each is wrong among four wares, as a set and as a mixture.
-WRONG_LISTS = [
-    [1, 1], [0, 0], [0, 1, 1], [0, 0, 1], [0, 2, 2, 3],
-    [1, 0], [3, 2], [0, 2, 1], [1, 0, 2], [0, 3, 1, 2],
-    [-1], [-1, 0], [-4], [0, -1], [-(10**30)], [-2, -1],
-    [4], [0, 4], [0, 1, 2, 3, 4], [7], [8], [10**30], [10**5000],
-]
-
-
-def subsets(wares):
-    every = []
-    for size in range(wares + 1):
-        every.extend(list(each) for each in itertools.combinations(range(wares), size))
-    return every
-
-
-def expected_answers(plan, spoilt):
-    return [not set(mixture).isdisjoint(spoilt) for mixture in plan]
+from helper import WRONG_LISTS, WRONG_WARES, assert_refused, expected_answers, subsets
 
 
 class Answers(unittest.TestCase):
@@ -148,7 +127,7 @@ class AnswersAreTheAskersOwn(unittest.TestCase):
 
 class AnswersRefused(unittest.TestCase):
     def test_wrong_numbers_of_wares(self):
-        for wares in TOO_FEW_OR_MANY:
+        for wares in WRONG_WARES:
             for plan, spoilt in (([], []), ([[0]], [0])):
                 assert_refused(self, "NoWares", answers, wares, plan, spoilt)
 
@@ -180,7 +159,7 @@ class AnswersRefused(unittest.TestCase):
             assert_refused(self, "NoSet", answers, wares, [], [-1])
 
     def test_wares_are_refused_ahead_of_plan_and_set(self):
-        for wares in TOO_FEW_OR_MANY:
+        for wares in WRONG_WARES:
             for plan in ([[]], [[1, 0]], [[-1]], [[0]] * 13, [[9]]):
                 assert_refused(self, "NoWares", answers, wares, plan, [])
                 assert_refused(self, "NoWares", answers, wares, plan, [1, 0])

@@ -1,7 +1,7 @@
 import unittest
 
 from mixpots import errors
-from refusals import NAMES
+from helper import NAMES
 
 
 class ErrorClasses(unittest.TestCase):

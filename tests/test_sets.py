@@ -2,16 +2,7 @@ import inspect
 import unittest
 
 from mixpots.plans import sets
-from refusals import assert_refused
-
-WRONG_WARES = [0, 9, 10, -1, -8, 100, 10**30, -(10**30), 10**5000, -(10**5000)]
-WRONG_MOSTS = [-1, 4, -2, 5, 8, 9, -100, 100, 10**30, -(10**30), 10**5000, -(10**5000)]
-
-
-def expected_sets(wares, most):
-    """All sets, found by walking every choice of wares and ordered by the words of the document."""
-    every = [[ware for ware in range(wares) if choice >> ware & 1] for choice in range(2**wares)]
-    return sorted((each for each in every if len(each) <= most), key=lambda each: (len(each), each))
+from helper import WRONG_MOSTS, WRONG_WARES, assert_refused, expected_sets
 
 
 class Sets(unittest.TestCase):
